@@ -1,0 +1,1 @@
+"""Foldlog: logbooks kept by clocks that are put forward and back."""
