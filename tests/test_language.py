@@ -193,6 +193,35 @@ class Words(unittest.TestCase):
             else:
                 self.assertNotIn(node.name, dir(builtins) + UNUSED_NAMES)
 
+    def test_no_annotation(self):
+        for name, node in nodes(ast.FunctionDef):
+            self.assertIsNone(node.returns, (name, node.name))
+            self.assertEqual([one.arg for one in node.args.args if one.annotation is not None], [], (name, node.name))
+
+    def test_keywords(self):
+        allowed = {"sorted": ["key", "reverse"], "min": ["key", "default"], "max": ["key", "default"], "sum": ["start"],
+                   "enumerate": ["start"], "zip": ["strict"]}
+        for name, node in nodes(ast.Call):
+            for keyword in node.keywords:
+                self.assertIn(keyword.arg, allowed.get(getattr(node.func, "id", ""), []), (name, node.lineno))
+
+    def test_lambdas_of_one_line(self):
+        seen = []
+        for name, node in nodes(ast.Lambda):
+            seen.append((name, node.lineno, tuple(one.arg for one in node.args.args)))
+        self.assertEqual(len(seen), len(set(seen)))
+
+    def test_own_names_are_called(self):
+        # Those that are called and not kept; the classes among them may stand by isinstance.
+        for name, tree in trees().items():
+            above = parents(tree)
+            for node in ast.walk(tree):
+                if isinstance(node, ast.Name) and node.id in OWN_NAMES and node.id[0].islower():
+                    around = above[node]
+                    called = isinstance(around, ast.Call) and around.func is node
+                    asked = isinstance(around, ast.Call) and getattr(around.func, "id", "") == "isinstance"
+                    self.assertTrue(called or asked, (name, node.lineno))
+
     def test_set_is_used_on_the_spot(self):
         for name, tree in trees().items():
             above = parents(tree)
@@ -237,6 +266,33 @@ class Classes(unittest.TestCase):
         for field in fields:
             for value in (1, "", [], {}, (), set(), b"", ValueError()):
                 self.assertFalse(hasattr(value, field), field)
+
+    def test_where_classes_stand(self):
+        classes = [node.name for name, node in nodes(ast.ClassDef)]
+        for name, tree in trees().items():
+            above = parents(tree)
+            for node in ast.walk(tree):
+                if isinstance(node, ast.Name) and node.id in classes:
+                    around = above[node]
+                    called = isinstance(around, ast.Call) and around.func is node
+                    asked = isinstance(around, ast.Call) and getattr(around.func, "id", "") == "isinstance"
+                    base = isinstance(around, ast.ClassDef) or isinstance(around, ast.ExceptHandler)
+                    init = isinstance(around, ast.Attribute) and around.attr == "__init__"
+                    self.assertTrue(called or asked or base or init, (name, node.lineno))
+
+    def test_methods_that_are_not_called(self):
+        own = [part.name for name, node in nodes(ast.ClassDef) for part in node.body if isinstance(part, ast.FunctionDef)]
+        for name, tree in trees().items():
+            above = parents(tree)
+            for node in ast.walk(tree):
+                if isinstance(node, ast.Attribute) and node.attr in own + METHODS:
+                    around = above[node]
+                    self.assertTrue(isinstance(around, ast.Call) and around.func is node, (name, node.lineno))
+
+    def test_making_gives_back_nothing(self):
+        for name, node in nodes(ast.FunctionDef):
+            if node.name == "__init__":
+                self.assertEqual([one for one in ast.walk(node) if isinstance(one, ast.Return)], [], name)
 
     def test_methods_that_are_called(self):
         own = [part.name for name, node in nodes(ast.ClassDef) for part in node.body if isinstance(part, ast.FunctionDef)]
