@@ -103,3 +103,9 @@ class Log:
         told.entries = dict(self.entries)
         told.bound = list(self.bound)
         return told
+
+    def with_entry(self, entry):
+        # A copy that has this entry in the place of the one of the same name.
+        told = self.copied()
+        told.entries[entry.name] = entry
+        return told

@@ -41,25 +41,40 @@ def furthest(waiting, lows, heights):
     return max(list(waiting), key=lambda entry: lows[entry] - heights[entry])
 
 
+class Raiser:
+    # What raising asks of a frame each time, found once for many times.
+    def __init__(self, frame):
+        self.kept_spans = frame.spans()
+        self.kept_bonds = frame.bonds()
+        self.heights = heights_of(frame)
+        self.onwards = numbers_from(self.kept_bonds, len(self.kept_spans))
+
+    def lift(self, lows, entries):
+        # Raises the lows that are handed in, in their place, going on from these
+        # entries. A tuple (steps, past) is told; at a step past its entry's last
+        # moment the lows stay as they are ahead of it.
+        steps = []
+        waiting = dict([(entry, True) for entry in entries])
+        while waiting:
+            entry = furthest(waiting, lows, self.heights)
+            waiting.pop(entry)
+            for number in self.onwards[entry]:
+                later = self.kept_bonds[number][LATER]
+                low = low_behind(self.kept_spans, lows, self.kept_bonds[number])
+                if low == lows[later]:
+                    continue
+                steps.append(number)
+                if low is None:
+                    return (steps, later)
+                lows[later] = low
+                waiting[later] = True
+        return (steps, None)
+
+    def laters(self, steps):
+        return [self.kept_bonds[number][LATER] for number in steps]
+
+
 def raised(frame, lows):
-    spans = frame.spans()
-    bonds = frame.bonds()
-    heights = heights_of(frame)
-    onwards = numbers_from(bonds, len(spans))
     told = list(lows)
-    steps = []
-    waiting = dict([(entry, True) for entry in range(len(spans))])
-    while waiting:
-        entry = furthest(waiting, told, heights)
-        waiting.pop(entry)
-        for number in onwards[entry]:
-            later = bonds[number][LATER]
-            low = low_behind(spans, told, bonds[number])
-            if low == told[later]:
-                continue
-            steps.append(number)
-            if low is None:
-                return (told, steps, later)
-            told[later] = low
-            waiting[later] = True
-    return (told, steps, None)
+    lifted = Raiser(frame).lift(told, list(range(len(lows))))
+    return (told, lifted[0], lifted[1])

@@ -76,10 +76,15 @@ def has_ring(many, bonds):
     return any(longest[entry][entry] is not None and longest[entry][entry] > 0 for entry in range(many))
 
 
-def least_way(moments, bonds):
-    # The least of all lows that keep all bonds, entry by entry, found by trying all.
-    ways = [values for values in itertools.product(*moments)
+def all_ways(moments, bonds):
+    # Found by trying all.
+    return [values for values in itertools.product(*moments)
             if all(values[later] >= values[earlier] + minutes for later, earlier, minutes in bonds)]
+
+
+def least_way(moments, bonds):
+    # The least of all lows that keep all bonds, entry by entry.
+    ways = all_ways(moments, bonds)
     if not ways:
         return None
     return [min(values[entry] for values in ways) for entry in range(len(moments))]
@@ -171,3 +176,9 @@ def is_told_paper(names, spans, bonds, paper):
     if paper[0] != "past" or not goes_past(spans, bonds, paper[1]):
         return False
     return each_raises(spans, bonds, paper[1]) and is_built_on(bonds, paper[1])
+
+
+def is_paper_told_of(log, paper):
+    names = log.names()
+    bonds = [(names.index(later), names.index(earlier), minutes) for later, earlier, minutes in log.bonds()]
+    return is_told_paper(names, [log.spans(name) for name in names], bonds, paper)

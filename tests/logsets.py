@@ -97,3 +97,64 @@ def a_log():
     for bond in [("within", "at", 3), ("any", "read", -5), ("read", "between", 0), ("joint", "at", -1), ("any", "any", 0)]:
         log.bind(*bond)
     return log
+
+
+def within(highs, bonds):
+    # Entries each from the moment 0 to its high, below 0 for one without moments.
+    log = Log()
+    for number, high in enumerate(highs):
+        log.put(Within(name_of(number), 0, high) if high >= 0 else Within(name_of(number), 1, 0))
+    for later, earlier, minutes in bonds:
+        log.bind(name_of(later), name_of(earlier), minutes)
+    return log
+
+
+def zigzag_log():
+    # Two entries that go up by turns, each leaping from one moment to the next.
+    log = Log()
+    log.put(Sifted("even", Within("x", 0, 999), lambda moment: moment % 2 == 0))
+    log.put(Sifted("odd", Within("x", 0, 999), lambda moment: moment % 2 == 1))
+    log.bind("even", "odd", 0)
+    log.bind("odd", "even", 0)
+    return log
+
+
+def some_table(chance):
+    moments = [0] + sorted(chance.sample(range(1, 4000), chance.randint(0, 20)))
+    return Table([(moment, chance.randint(-300, 300)) for moment in moments])
+
+
+def around(chance, name, moment):
+    return Within(name, max(moment - chance.randint(0, 400), 0), moment + chance.randint(0, 400))
+
+
+def entry_with(chance, log, name, moment):
+    # An entry of any kind but a joint one that has this moment among its own.
+    place = chance.choice(log.places())
+    reading = log.table(place).reading(moment)
+    beat = chance.randint(2, 9)
+    kinds = [
+        Entry(name), around(chance, name, moment), At(name, moment), Read(name, place, reading),
+        Between(name, place, reading - chance.randint(0, 300), reading + chance.randint(0, 300)),
+        Sifted(name, around(chance, name, moment), lambda number: number % beat == moment % beat),
+        Sifted(name, Read(name, place, reading), lambda number: number >= moment),
+    ]
+    return kinds[chance.randrange(len(kinds))]
+
+
+def full_log(seed):
+    # A log with as much as a log can have, of each kind, and a way of it.
+    chance = random.Random(seed)
+    log = Log()
+    way = {}
+    for place in ("east", "fold", "home", "inn", "port", "west"):
+        log.clock(place, some_table(chance))
+    for number in range(60):
+        name = name_of(number)
+        way[name] = chance.randint(1000, 3000)
+        parts = [entry_with(chance, log, "x", way[name]) for part in range(chance.randint(1, 8))]
+        log.put(Joint(name, parts) if number % 6 == 5 else entry_with(chance, log, name, way[name]))
+    for number in range(100):
+        later, earlier = name_of(chance.randrange(60)), name_of(chance.randrange(60))
+        log.bind(later, earlier, way[later] - way[earlier] - chance.choice([0, 0, 5, 100, 1000]))
+    return log, way

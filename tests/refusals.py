@@ -1,6 +1,6 @@
 """What several tests need: things that are nothing in particular, and refusals."""
 
-from foldlog.errors import LogError
+from foldlog.errors import LogError, NoWay
 
 
 def a_function(moment):
@@ -37,3 +37,12 @@ def refuses(case, wanted, field, value, call, *arguments):
         case.assertEqual(told, value)
     else:
         case.assertIs(told, value)
+
+
+def no_way(case, call, *arguments):
+    # The paper of a refusal with NoWay.
+    with case.assertRaises(LogError) as caught:
+        call(*arguments)
+    case.assertIs(type(caught.exception), NoWay)
+    case.assertEqual(list(vars(caught.exception)), ["paper"])
+    return caught.exception.paper

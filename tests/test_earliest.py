@@ -3,23 +3,15 @@ import unittest
 
 from foldlog.earliest import earliest, walked_up
 from foldlog.entries import At, Entry, Read, Sifted, Within
-from foldlog.errors import LogError, NoBond, NoWay
+from foldlog.errors import NoBond
 from foldlog.frames import frame_of
 from foldlog.logs import Log
-from foldlog.papers import is_paper
 from foldlog.tables import Table
 from foldlog.ways import is_way
-from framesets import each_raises, is_told_paper, least_way, longest_chain, small_cases, trap, walk
+from framesets import each_raises, least_way, longest_chain, small_cases, trap, walk
 from logsets import FOLD, LAST, a_log, free_log, log_of, told_by
-from refusals import ODD_THINGS, THIRTY, a_function, deep_list, refuses
-
-
-def refused_paper(case, log):
-    with case.assertRaises(LogError) as caught:
-        earliest(log)
-    case.assertIs(type(caught.exception), NoWay)
-    case.assertEqual(list(vars(caught.exception)), ["paper"])
-    return caught.exception.paper
+from paperchecks import check_no_way
+from refusals import ODD_THINGS, THIRTY, a_function, deep_list, no_way, refuses
 
 
 class Earliest(unittest.TestCase):
@@ -40,13 +32,7 @@ class Earliest(unittest.TestCase):
         return way, steps
 
     def check_refused(self, log):
-        before = told_by(log)
-        paper = refused_paper(self, log)
-        frame = frame_of(log)
-        self.assertTrue(is_told_paper(log.names(), frame.spans(), frame.bonds(), paper), paper)
-        self.assertIs(is_paper(log, paper), True)
-        self.assertEqual(told_by(log), before)
-        return paper
+        return check_no_way(self, log, log, earliest, log)
 
     def test_without_entries(self):
         self.assertEqual(self.check(Log()), ({}, []))
@@ -161,10 +147,10 @@ class Earliest(unittest.TestCase):
 
     def test_a_refusals_paper_is_the_askers_own(self):
         for log in (free_log(2, [(0, 1, 5), (1, 0, -4)]), free_log(2, [(0, 1, LAST + 1)])):
-            paper = refused_paper(self, log)
+            paper = no_way(self, earliest, log)
             wanted = (paper[0], list(paper[1]))
             paper[1].clear()
-            self.assertEqual(refused_paper(self, log), wanted)
+            self.assertEqual(no_way(self, earliest, log), wanted)
             self.assertEqual(paper[1], [])
 
     def test_what_was_told_stays(self):

@@ -2,35 +2,15 @@ import itertools
 import random
 import unittest
 
-from foldlog.entries import At, Entry, Joint, Read, Sifted, Within
+from foldlog.entries import At, Entry, Joint, Read, Within
 from foldlog.frames import frame_of
 from foldlog.logs import Log
 from foldlog.papers import is_paper, paper_of
 from foldlog.raising import walked
 from foldlog.tables import Table
-from framesets import goes_past, goes_round, is_told_paper, least_way, small_cases, trap, walk
-from logsets import FOLD, LAST, a_log, free_log, log_of, name_of, told_by
+from framesets import goes_past, goes_round, is_paper_told_of, least_way, small_cases, trap, walk
+from logsets import FOLD, LAST, a_log, free_log, log_of, told_by, within, zigzag_log
 from refusals import ODD_THINGS, THIRTY, a_function, deep_list
-
-
-def within(highs, bonds):
-    # Entries each from the moment 0 to its high, below 0 for one without moments.
-    log = Log()
-    for number, high in enumerate(highs):
-        log.put(Within(name_of(number), 0, high) if high >= 0 else Within(name_of(number), 1, 0))
-    for later, earlier, minutes in bonds:
-        log.bind(name_of(later), name_of(earlier), minutes)
-    return log
-
-
-def zigzag_log():
-    # Two entries that go up by turns, each leaping from one moment to the next.
-    log = Log()
-    log.put(Sifted("even", Within("x", 0, 999), lambda moment: moment % 2 == 0))
-    log.put(Sifted("odd", Within("x", 0, 999), lambda moment: moment % 2 == 1))
-    log.bind("even", "odd", 0)
-    log.bind("odd", "even", 0)
-    return log
 
 
 class Told(unittest.TestCase):
@@ -38,8 +18,7 @@ class Told(unittest.TestCase):
         before = told_by(log)
         paper = paper_of(log)
         self.assertEqual(told_by(log), before)
-        frame = frame_of(log)
-        self.assertTrue(is_told_paper(log.names(), frame.spans(), frame.bonds(), paper), paper)
+        self.assertTrue(is_paper_told_of(log, paper), paper)
         self.assertIs(is_paper(log, paper), True)
         return paper
 
