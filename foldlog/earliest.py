@@ -4,7 +4,6 @@ from foldlog.errors import NoBond, NoWay
 from foldlog.frames import frame_of
 from foldlog.papers import settled
 from foldlog.raising import walked
-from foldlog.words import is_whole
 
 
 def earliest_in(names, frame):
@@ -21,10 +20,8 @@ def earliest(log):
 def check_steps(log, steps):
     if not isinstance(steps, list):
         raise NoBond(steps)
-    last = len(log.bonds()) - 1
     for number in steps:
-        if not is_whole(number, 0, last):
-            raise NoBond(number)
+        log.check_bond(number)
 
 
 def walked_up(log, steps):

@@ -55,8 +55,7 @@ class Log:
         return len(self.bound) - 1
 
     def unbind(self, number):
-        if not is_whole(number, 0, len(self.bound) - 1):
-            raise NoBond(number)
+        self.check_bond(number)
         self.bound.pop(number)
 
     def drop(self, name):
@@ -67,6 +66,10 @@ class Log:
     def check_entry(self, name):
         if not is_key(name, self.entries):
             raise NoEntry(name)
+
+    def check_bond(self, number):
+        if not is_whole(number, 0, len(self.bound) - 1):
+            raise NoBond(number)
 
     def names(self):
         return list(self.entries)
@@ -108,4 +111,10 @@ class Log:
         # A copy that has this entry in the place of the one of the same name.
         told = self.copied()
         told.entries[entry.name] = entry
+        return told
+
+    def with_bonds(self, bonds):
+        # A copy that has these bonds in the place of its own.
+        told = self.copied()
+        told.bound = list(bonds)
         return told

@@ -12,9 +12,10 @@ def first_lows(frame):
 def low_behind(spans, lows, bond):
     # The low of the bond's later entry behind a step upwards.
     low = lows[bond[LATER]]
-    if low is None or lows[bond[EARLIER]] is None:
+    ahead = lows[bond[EARLIER]]
+    if low is None or ahead is None or ahead + bond[MINUTES] <= low:
         return low
-    return first_from(spans[bond[LATER]], max(low, lows[bond[EARLIER]] + bond[MINUTES]))
+    return first_from(spans[bond[LATER]], ahead + bond[MINUTES])
 
 
 def walked(frame, steps):

@@ -66,9 +66,11 @@ class Sweep:
         self.low = max(self.low, self.lows[self.swept])
         return True
 
+    def last_low(self, entry):
+        # Where an entry is in the earliest of all ways with the swept one at high.
+        if entry not in self.reach:
+            return self.lows[entry]
+        return max(self.lows[entry], self.high + self.reach[entry])
+
     def last_way(self):
-        # The earliest of all ways with the swept entry at high.
-        told = list(self.lows)
-        for entry in self.reach:
-            told[entry] = max(told[entry], self.high + self.reach[entry])
-        return told
+        return [self.last_low(entry) for entry in range(len(self.lows))]
