@@ -42,11 +42,12 @@ def shortened_row(frame, numbers):
     spans = frame.spans()
     bonds = frame.bonds()
     told = lows_ahead(frame, numbers)
+    ahead = told[0]
     lows = told[1]
     last = bonds[numbers[-1]][LATER]
     needs = {last: spans[last][-1][1] + 1}
     kept = []
-    for number, low in reversed(list(zip(numbers, told[0]))):
+    for number, low in reversed(list(zip(numbers, ahead))):
         lows[bonds[number][LATER]] = low
         if not is_met(needs, lows):
             kept.append(number)
